@@ -97,7 +97,7 @@ func readRecord(n int, sectors []string) (api.Fact, int, bool) {
 		return api.Fact{}, 0, false
 	}
 	pieces := piecesOf(sectors[0])
-	if !isWithin(pieces, 0, len(sectors)-1) {
+	if !isWithin(pieces, 1, len(sectors)-1) {
 		return api.Fact{}, 0, false
 	}
 	// What the first sector says of the record is right if the record is the same when it is written again; there is none with a number that is too great, or without a fact.
@@ -106,15 +106,12 @@ func readRecord(n int, sectors []string) (api.Fact, int, bool) {
 	return f, len(again), e == api.OK && slices.Equal(again, sectors[:1+pieces])
 }
 
-// piecesOf returns how many sectors the first one of a record says are behind it, or -1 if it says nothing.
+// piecesOf returns how many sectors the first one of a record says are behind it; 0, which is wrong, if it says nothing.
 func piecesOf(head string) int {
 	words := strings.SplitN(head, " ", 4)
 	if len(words) < 4 {
-		return -1
+		return 0
 	}
-	pieces, err := strconv.Atoi(words[2])
-	if err != nil {
-		return -1
-	}
+	pieces, _ := strconv.Atoi(words[2])
 	return pieces
 }

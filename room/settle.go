@@ -120,8 +120,8 @@ func (t trial) settles(list []int) bool {
 	sights := t.sights(m, t.ways)
 	for results := range t.choices(list) {
 		// A result that is no difference of a valid case is none of a valid translation, so the verdict stays open.
-		for i := range sights {
-			sights[i].book = showing(sights[i].book, results)
+		for _, s := range sights {
+			show(s.book, results)
 		}
 		if t.verdict(sights) == api.ShOpen {
 			return false
@@ -130,14 +130,12 @@ func (t trial) settles(list []int) bool {
 	return true
 }
 
-// showing returns a book whose last comparisons show some results.
-func showing(b api.Book, results []int) api.Book {
-	b.Compares = slices.Clone(b.Compares)
+// show lets the last comparisons of a book show some results.
+func show(b api.Book, results []int) {
 	last := b.Compares[len(b.Compares)-len(results):]
 	for i, r := range results {
 		last[i].Diff = r
 	}
-	return b
 }
 
 // choices yields all choices of a result for each comparison of a list.
